@@ -8,7 +8,7 @@ import (
 // settled is a client's end after all that it made is known to be taken and nothing flies.
 func settled(r *Room, client int) *end {
 	e := r.ends[side{client: client}]
-	e.known = len(e.made)
+	e.learn(e.made())
 	e.flying = nil
 	return e
 }
@@ -17,7 +17,7 @@ func TestP4WindowMovesWithWhatIsKnown(t *testing.T) {
 	r, _ := New(1, 2)
 	r.Put(0, 0, 'a')
 	r.Put(0, 1, 'b')
-	r.ends[side{}].known = 1
+	r.ends[side{}].learn(1)
 	if n, e := r.Waits(0); n != 1 || e != OK {
 		t.Errorf("Waits = %d, %d, want 1", n, e)
 	}
@@ -77,7 +77,7 @@ func TestP4ManyLetters(t *testing.T) {
 		if got := r.Put(0, length, 'b'); got != ErrMany {
 			t.Errorf("Put behind %d letters = %d", length, got)
 		}
-		if len(e.made) != 0 || len(e.flying) != 0 || e.text.length() != length {
+		if e.made() != 0 || len(e.flying) != 0 || e.text.length() != length {
 			t.Errorf("the refused Put behind %d letters left something", length)
 		}
 		if got := r.Cut(0, length-1); got != OK {
@@ -114,7 +114,7 @@ func TestP6ContextAndTaken(t *testing.T) {
 	e.taken = 3
 	r.Put(0, 0, 'a')
 	e.taken = 5
-	e.send(e.made...)
+	e.send(e.waiting...)
 	for n, head := range []string{"\x01\x01\x03\x03", "\x01\x01\x03\x05"} {
 		if s, _ := r.Peek(0, false, n); !strings.HasPrefix(s, head) {
 			t.Errorf("Peek(0, false, %d) = %q, want it to start with %q", n, s, head)
@@ -131,7 +131,7 @@ func TestP6WaysAreApart(t *testing.T) {
 	if n, _ := r.Flying(1, false); n != 0 {
 		t.Errorf("Flying(1, false) = %d, want 0", n)
 	}
-	if s, _ := r.Peek(1, true, 0); s != write(1, 1, 0, 0, 0, 2, 7, 0) {
+	if s, _ := r.Peek(1, true, 0); s != string(write(1, 1, 0, 0, 0, 2, 7, 0)) {
 		t.Errorf("Peek(1, true, 0) = %q", s)
 	}
 }
@@ -143,14 +143,14 @@ func TestP6AtMostMaxFlying(t *testing.T) {
 	}
 	e := r.ends[side{}]
 	for range 3 {
-		e.send(e.made...)
+		e.send(e.waiting...)
 	}
 	if n, _ := r.Flying(0, false); n != 12 {
 		t.Errorf("Flying = %d, want 12", n)
 	}
 	// Some of one sending find room, the others are lost.
 	e.flying = e.flying[:10]
-	e.send(e.made...)
+	e.send(e.waiting...)
 	if n, _ := r.Flying(0, false); n != 12 {
 		t.Errorf("Flying = %d, want 12", n)
 	}
@@ -160,9 +160,9 @@ func TestP6AtMostMaxFlying(t *testing.T) {
 		}
 	}
 	// What finds no room is made all the same.
-	e.known = 4
-	if got := r.Put(0, 0, 'b'); got != OK || len(e.made) != 5 || len(e.flying) != 12 {
-		t.Errorf("Put on a full way = %d, %d made, %d fly", got, len(e.made), len(e.flying))
+	e.learn(4)
+	if got := r.Put(0, 0, 'b'); got != OK || e.made() != 5 || len(e.flying) != 12 {
+		t.Errorf("Put on a full way = %d, %d made, %d fly", got, e.made(), len(e.flying))
 	}
 }
 
@@ -172,8 +172,8 @@ func TestMessageAboveTheWindowIsMadeAndNotSent(t *testing.T) {
 	for range 5 {
 		e.makeMessage(operation{client: 0})
 	}
-	if len(e.made) != 5 || len(e.flying) != 2 {
-		t.Errorf("%d made, %d fly, want 5 and 2", len(e.made), len(e.flying))
+	if e.made() != 5 || len(e.flying) != 2 {
+		t.Errorf("%d made, %d fly, want 5 and 2", e.made(), len(e.flying))
 	}
 }
 
@@ -204,7 +204,7 @@ func TestCheck(t *testing.T) {
 		{[]byte{1, 2}, [2]byte{3, 5}},
 		{[]byte{255, 255, 255, 255, 255, 255, 255, 255}, [2]byte{32, 144}},
 	} {
-		if got := write(c.run...); got != string(c.run)+string(c.check[:]) {
+		if got := write(c.run...); string(got) != string(c.run)+string(c.check[:]) {
 			t.Errorf("write(%v) = %v, want the check %v", c.run, []byte(got), c.check)
 		}
 	}

@@ -40,8 +40,8 @@ func New(clients int, window int) (*Room, Errno) {
 	}
 	r := &Room{text: &text{}, ends: map[side]*end{}}
 	for c := range clients {
-		r.ends[side{client: c}] = &end{text: &text{}, window: window}
-		r.ends[side{client: c, server: true}] = &end{text: r.text, window: window}
+		r.ends[side{client: c}] = newEnd(&text{}, window)
+		r.ends[side{client: c, server: true}] = newEnd(r.text, window)
 	}
 	return r, OK
 }
@@ -123,11 +123,32 @@ func (r *Room) Peek(client int, down bool, n int) (string, Errno) {
 	if n < 0 || n >= len(e.flying) {
 		return "", ErrFlight
 	}
-	return e.flying[n], OK
+	return string(e.flying[n]), OK
 }
 
-// Fate does something to a datagram (P7).
-func (r *Room) Fate(client int, down bool, n int, kind int) Errno { return OK }
+// Fate decides what becomes of a datagram (P7).
+func (r *Room) Fate(client int, down bool, n int, kind int) Errno {
+	from := side{client: client, server: down}
+	e := r.ends[from]
+	if e == nil {
+		return ErrClient
+	}
+	if n < 0 || n >= len(e.flying) {
+		return ErrFlight
+	}
+	fate := fates()[kind]
+	if fate == nil {
+		return ErrArg
+	}
+	return fate(flight{room: r, from: from, n: n})
+}
 
-// Tick is an end's tick (P8).
-func (r *Room) Tick(client int, server bool) Errno { return OK }
+// Tick is the tick of an end of a client's line (P8).
+func (r *Room) Tick(client int, server bool) Errno {
+	e := r.ends[side{client: client, server: server}]
+	if e == nil {
+		return ErrClient
+	}
+	e.tick()
+	return OK
+}
