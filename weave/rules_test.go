@@ -6,7 +6,6 @@ import (
 	"go/format"
 	"go/parser"
 	"go/token"
-	"io/fs"
 	"os"
 	"path/filepath"
 	"slices"
@@ -31,30 +30,28 @@ var mayBeImported = []string{
 	"strconv", "strings", "sync", "sync/atomic", "unicode", "unicode/utf8",
 }
 
-// programFiles reads all Go files of the module but its tests.
+// programFiles reads all Go files of the program, which is this package alone, but its tests.
 func programFiles(t *testing.T) []sourceFile {
 	t.Helper()
 	var files []sourceFile
-	err := filepath.WalkDir("..", func(path string, entry fs.DirEntry, err error) error {
-		switch {
-		case err != nil:
-			return err
-		case entry.IsDir() && (entry.Name() == "sharedtests" || entry.Name() == ".git"):
-			return filepath.SkipDir
-		case entry.IsDir() || !strings.HasSuffix(path, ".go") || strings.HasSuffix(path, "_test.go"):
-			return nil
+	paths, _ := filepath.Glob("*.go")
+	for _, path := range paths {
+		if strings.HasSuffix(path, "_test.go") {
+			continue
 		}
 		text, err := os.ReadFile(path)
 		if err != nil {
-			return err
+			t.Fatal(err)
 		}
 		places := token.NewFileSet()
 		syntax, err := parser.ParseFile(places, path, text, parser.ParseComments)
+		if err != nil {
+			t.Fatal(err)
+		}
 		files = append(files, sourceFile{path, text, syntax, places})
-		return err
-	})
-	if err != nil || len(files) == 0 {
-		t.Fatalf("%d files of the program: %v", len(files), err)
+	}
+	if len(files) == 0 {
+		t.Fatal("the program has no files")
 	}
 	return files
 }
@@ -63,7 +60,7 @@ func TestImports(t *testing.T) {
 	for _, f := range programFiles(t) {
 		for _, spec := range f.syntax.Imports {
 			path, _ := strconv.Unquote(spec.Path.Value)
-			if !slices.Contains(mayBeImported, path) && !strings.HasPrefix(path, "weave/") {
+			if !slices.Contains(mayBeImported, path) {
 				t.Errorf("%s imports %s", f.path, path)
 			}
 		}
